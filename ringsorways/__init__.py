@@ -1,0 +1,1 @@
+"""Ringsorways: what fences part, and what it costs to come through."""

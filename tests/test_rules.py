@@ -1,0 +1,141 @@
+"""The package keeps to its small part of Python, as far as that can be seen by reading its files.
+
+Not every rule is looked at here: just those that a slip breaks easily.
+"""
+
+import ast
+import pathlib
+import unittest
+
+from tests.test_errors import NAMES as ERRORS
+
+PACKAGE = pathlib.Path(__file__).resolve().parent.parent / "ringsorways"
+
+BUILTINS = """len range enumerate zip min max sum abs sorted reversed int str bool list tuple dict set isinstance ord
+repr any all divmod Exception ValueError TypeError KeyError IndexError LookupError ZeroDivisionError
+NotImplemented""".split()
+
+LIBRARY = {"math": {"gcd", "lcm", "isqrt"}, "heapq": {"heappush", "heappop", "heapify"}}
+
+NAMES = {
+    "errors": "FenceError " + " ".join(ERRORS),
+    "plane": "side meet between inside",
+    "drawings": "Drawing with_fence without priced led_over",
+}
+
+
+def trees():
+    """Each file's name with its text and its tree."""
+    for path in sorted(PACKAGE.glob("*.py")):
+        text = path.read_text(encoding="ascii")
+        yield path.name, text, ast.parse(text)
+
+
+def arguments_of(node):
+    return node.args.posonlyargs + node.args.args + node.args.kwonlyargs
+
+
+def stored_in(tree):
+    """All names that something is assigned to."""
+    return {node.id for node in ast.walk(tree) if isinstance(node, ast.Name) and isinstance(node.ctx, ast.Store)}
+
+
+class TestRules(unittest.TestCase):
+    def test_the_folder_holds_python_files_alone(self):
+        others = [path.name for path in PACKAGE.iterdir() if path.suffix != ".py" and path.name != "__pycache__"]
+        self.assertEqual(others, [])
+        self.assertTrue((PACKAGE / "__init__.py").exists())
+
+    def test_sizes(self):
+        for name, text, tree in trees():
+            lines = text.split("\n")
+            self.assertLessEqual(len(lines), 399, name)
+            self.assertLessEqual(max(len(line) for line in lines), 120, name)
+            self.assertNotIn("\t", text, name)
+            for node in ast.walk(tree):
+                if isinstance(node, ast.FunctionDef):
+                    self.assertLessEqual(node.end_lineno - node.lineno + 1, 40, (name, node.name))
+
+    def test_imports(self):
+        for name, _, tree in trees():
+            for node in ast.walk(tree):
+                self.assertNotIsInstance(node, ast.Import, name)
+                if isinstance(node, ast.ImportFrom):
+                    self.assertIn(node, tree.body, name)
+                    self.assertTrue(all(alias.asname is None for alias in node.names), name)
+                    if node.module in LIBRARY:
+                        self.assertLessEqual({alias.name for alias in node.names}, LIBRARY[node.module], name)
+                    else:
+                        self.defined_there(name, node)
+
+    def defined_there(self, name, node):
+        folder, _, module = node.module.partition(".")
+        self.assertEqual(folder, "ringsorways", name)
+        tree = ast.parse((PACKAGE / (module + ".py")).read_text(encoding="ascii"))
+        defined = {inner.name for inner in tree.body if isinstance(inner, (ast.FunctionDef, ast.ClassDef))}
+        defined |= {inner.targets[0].id for inner in tree.body if isinstance(inner, ast.Assign)}
+        self.assertLessEqual({alias.name for alias in node.names}, defined, name)
+
+    def test_no_file_imports_itself_in_a_round(self):
+        wanted = {}
+        for name, _, tree in trees():
+            froms = [node.module for node in tree.body if isinstance(node, ast.ImportFrom)]
+            wanted[name[:-3]] = {module.split(".")[1] for module in froms if module.startswith("ringsorways.")}
+        while wanted:
+            free = [name for name in wanted if not wanted[name] & set(wanted)]
+            self.assertTrue(free, wanted)
+            wanted = {name: needs for name, needs in wanted.items() if name not in free}
+
+    def test_what_the_interface_lists_is_defined_in_its_file(self):
+        for module, names in NAMES.items():
+            tree = ast.parse((PACKAGE / (module + ".py")).read_text(encoding="ascii"))
+            defined = {node.name for node in tree.body if isinstance(node, (ast.FunctionDef, ast.ClassDef))}
+            self.assertLessEqual(set(names.split()), defined, module)
+
+    def test_no_barred_syntax(self):
+        barred = (ast.AsyncFunctionDef, ast.Await, ast.Global, ast.Yield, ast.YieldFrom, ast.GeneratorExp, ast.Div)
+        for name, _, tree in trees():
+            for node in ast.walk(tree):
+                self.assertNotIsInstance(node, barred, name)
+                if isinstance(node, ast.Constant):
+                    self.assertNotIsInstance(node.value, (float, complex), name)
+                if isinstance(node, (ast.FunctionDef, ast.ClassDef)):
+                    self.assertEqual(node.decorator_list, [], name)
+                if isinstance(node, ast.ExceptHandler):
+                    self.assertIsNotNone(node.type, name)
+
+    def test_builtins(self):
+        everything = set(dir(__builtins__) if not isinstance(__builtins__, dict) else __builtins__)
+        for name, _, tree in trees():
+            own = stored_in(tree)
+            for node in ast.walk(tree):
+                if isinstance(node, (ast.FunctionDef, ast.ClassDef)):
+                    own.add(node.name)
+                if isinstance(node, (ast.FunctionDef, ast.Lambda)):
+                    own |= {argument.arg for argument in arguments_of(node)}
+            self.assertEqual(own & everything, set(), name)
+            used = {node.id for node in ast.walk(tree) if isinstance(node, ast.Name)} & everything
+            self.assertLessEqual(used, set(BUILTINS), name)
+
+    def test_no_name_of_an_import_is_used_for_something_else(self):
+        for name, _, tree in trees():
+            taken = [alias.name for node in tree.body if isinstance(node, ast.ImportFrom) for alias in node.names]
+            bound = [node.name for node in tree.body if isinstance(node, (ast.FunctionDef, ast.ClassDef))]
+            bound += [node.targets[0].id for node in tree.body if isinstance(node, ast.Assign)]
+            self.assertEqual(len(taken + bound), len(set(taken + bound)), name)
+            classes = {node.name for node in tree.body if isinstance(node, ast.ClassDef)}
+            for node in ast.walk(tree):
+                if isinstance(node, (ast.FunctionDef, ast.Lambda)):
+                    names = stored_in(node) | {argument.arg for argument in arguments_of(node)}
+                    self.assertEqual(names & (set(taken) | classes), set(), name)
+
+    def test_modules_hold_no_code_that_runs(self):
+        for name, _, tree in trees():
+            for node in tree.body:
+                plain = isinstance(node, ast.Expr) and isinstance(node.value, ast.Constant)
+                defined = isinstance(node, (ast.ImportFrom, ast.FunctionDef, ast.ClassDef, ast.Assign))
+                self.assertTrue(plain or defined, (name, node.lineno))
+
+
+if __name__ == "__main__":
+    unittest.main()
