@@ -16,6 +16,11 @@ def is_whole_number(value):
     return isinstance(value, int) and not isinstance(value, bool)
 
 
+def is_number_below(value, many):
+    """Whether value is an integer from 0 to one less than many."""
+    return is_whole_number(value) and 0 <= value < many
+
+
 def are_integers(value, many):
     """Whether value is a tuple of just so many integers."""
     return isinstance(value, tuple) and len(value) == many and all([is_whole_number(part) for part in value])
@@ -59,3 +64,18 @@ def integer_of(word):
         return None
     # int also reads "+1", "01", "1_0" and blanks around: none of these is how Python writes it.
     return number if str(number) == word else None
+
+
+def is_row(value, word, many):
+    """Whether value is a tuple of just so many members, the first of them being this word."""
+    return isinstance(value, tuple) and len(value) == many and value[0] == word
+
+
+def are_counted(value):
+    """Whether value is a tuple of pairs (anything, many), many being an integer from 1 on."""
+    return isinstance(value, tuple) and all([is_counted(pair) for pair in value])
+
+
+def is_counted(pair):
+    """Whether this is a pair (anything, many), many being an integer from 1 on."""
+    return isinstance(pair, tuple) and len(pair) == 2 and is_whole_number(pair[1]) and pair[1] >= 1

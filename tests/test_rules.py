@@ -4,6 +4,7 @@ Not every rule is looked at here: just those that a slip breaks easily.
 """
 
 import ast
+import builtins
 import pathlib
 import unittest
 
@@ -21,6 +22,9 @@ NAMES = {
     "errors": "FenceError " + " ".join(ERRORS),
     "plane": "side meet between inside",
     "drawings": "Drawing with_fence without priced led_over",
+    "rounds": "nexts rounds",
+    "lands": "lands hanging sides area around",
+    "spots": "land_of way_between",
 }
 
 
@@ -105,7 +109,8 @@ class TestRules(unittest.TestCase):
                     self.assertIsNotNone(node.type, name)
 
     def test_builtins(self):
-        everything = set(dir(__builtins__) if not isinstance(__builtins__, dict) else __builtins__)
+        # Examples that were run ahead of this one have left "_" among the builtins.
+        everything = set(dir(builtins)) - {"_"}
         for name, _, tree in trees():
             own = stored_in(tree)
             for node in ast.walk(tree):
