@@ -25,6 +25,10 @@ NAMES = {
     "rounds": "nexts rounds",
     "lands": "lands hanging sides area around",
     "spots": "land_of way_between",
+    "parting": "ring_has ring_price way_price parting shows_parting",
+    "cheapest": "cheapest shows_cheapest cost_without",
+    "tightest": "tightest shows_tightest",
+    "needed": "needed shows_needed",
 }
 
 

@@ -3,7 +3,8 @@
 import unittest
 
 from ringsorways.values import (
-    integer_of, is_fraction, is_name, is_point, is_price, is_share, is_whole_number, is_whole_point,
+    are_counted, integer_of, is_fraction, is_name, is_number_below, is_point, is_price, is_row, is_share,
+    is_whole_number, is_whole_point,
 )
 from tests.support import ANY_VALUES, WRONG_POINTS, Exact
 
@@ -18,6 +19,21 @@ class TestValues(Exact):
 
     def test_integers(self):
         self.only(is_whole_number, (0, -1, 7, 10 ** 40), (True, False, None, "1", (1,), [1], {1: 1}, 1.0))
+
+    def test_numbers_below(self):
+        for value, right in ((0, True), (4, True), (5, False), (-1, False), (True, False), ("0", False), (None, False)):
+            self.tells((value, is_number_below(value, 5)), (value, right))
+        self.tells(is_number_below(0, 0), False)
+
+    def test_rows(self):
+        self.tells([is_row(("way", 1), "way", 2), is_row(("way",), "way", 1)], [True, True])
+        for value in ANY_VALUES + (["way", 1], ("way",), ("way", 1, 2), ("ring", 1), (("way",), 1), (["way"], 1)):
+            self.tells((value, is_row(value, "way", 2)), (value, False))
+
+    def test_counted(self):
+        self.only(are_counted, ((), ((None, 1),), (("a", 7), ([], 10 ** 40))), (
+            [], ([None, 1],), ((None, 0),), ((None, -1),), ((None, True),), ((None, "1"),), ((None,),), ((None, 1, 1),),
+            (None,), ((None, 1), None), 0, None, "", {}))
 
     def test_fractions(self):
         wrong = (
