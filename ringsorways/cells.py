@@ -65,21 +65,21 @@ class Cells:
         left = self.heights.over(self.orders[cut], x)
         right = self.heights.over(self.orders[cut + 1], x)
         ahead = [None] * (len(right) + 1)
-        doors = []
+        found = []
         for low, high in openings([(height, height) for height in left + right] + self.bars[cut]):
             here, there = places_below(left, low), places_below(right, low)
             edges = self.edges(cut, left, here)
             if edges == self.edges(cut + 1, right, there) and (edges[1], edges[3]) == (low, high):
                 ahead[there] = self.numbers[cut][here]
             else:
-                doors.append((here, there, self.heights.point_between(x, low, high)))
+                found.append((here, there, self.heights.point_between(x, low, high)))
         for place in range(len(ahead)):
             if ahead[place] is None:
                 ahead[place] = len(self.homes)
                 self.homes.append((cut + 1, place))
                 self.doors.append([])
         self.numbers.append(ahead)
-        for here, there, point in doors:
+        for here, there, point in found:
             one, other = self.numbers[cut][here], ahead[there]
             self.doors[one].append((other, point))
             self.doors[other].append((one, point))

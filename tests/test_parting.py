@@ -164,6 +164,18 @@ class TestWayPrice(Exact):
                        ((1, 1, 1), (3, 1, 1))):
             self.refuses_the_very(BadWay, points, way_price, told, points)
 
+    def test_straight_along_a_lone_fence(self):
+        for text, one, other, aside in (("a 0 0 4 0", (-1, 0, 1), (5, 0, 1), (-9, 0, 1)),
+                                        ("a 0 0 0 4", (0, -1, 1), (0, 9, 2), (0, -9, 1)),
+                                        ("a 0 0 4 2", (-2, -1, 2), (10, 5, 1), (-8, -4, 1))):
+            lone = Drawing(f"drawing\nfence {text} 1")
+            for points in ((one, other), (other, one), (aside, other), (one, other, one)):
+                self.refuses_the_very(BadWay, points, way_price, lone, points)
+                self.tells(shows_parting(lone, points[0], points[-1], ("way", points)), False)
+            # On the same line, but beside the fence.
+            self.tells(way_price(lone, (one, aside)), 0)
+            self.tells(shows_parting(lone, one, aside, ("way", (one, aside))), True)
+
     def test_bent_lines_drawn_by_chance(self):
         for seed in range(6):
             dice = random.Random(seed)

@@ -8,7 +8,7 @@ from ringsorways.rounds import nexts, rounds
 from tests.by_hand import HAND
 from tests.drawn import drawing_of, great, kinds
 from tests.ruler import half_ends, slow_nexts, slow_rounds
-from tests.support import Exact
+from tests.support import Exact, name_number
 
 ROWS = ["drawing", "fence a 0 0 4 0 1", "fence b 4 0 4 4 1", "fence c 4 4 0 4 1", "fence d 0 4 0 0 1"]
 
@@ -71,6 +71,14 @@ class TestDrawn(Exact):
                 self.hold_together(drawing)
                 if len(drawing.pieces) < 130:
                     self.tells(nexts(drawing), slow_nexts(drawing.corners, drawing.pieces))
+
+    def test_slopes_that_are_nearly_alike(self):
+        tips = [(999, 500), (997, 499), (995, 498), (-999, 500), (-997, 499), (997, -499), (999, -500), (1, 1000),
+                (0, 1000), (-1, 999), (1, -999), (0, -1000), (-998, 499), (1000, 1), (999, 0), (1000, -1)]
+        for rows in (tips, tips[::-1], tips[1::2] + tips[::2]):
+            drawing = drawing_of([(name_number(k), (0, 0), tip, 1) for k, tip in enumerate(rows)])
+            self.tells(nexts(drawing), slow_nexts(drawing.corners, drawing.pieces))
+            self.hold_together(drawing)
 
     def test_small_ones_hold_together(self):
         for name, drawing in self.each():

@@ -136,6 +136,14 @@ class TestNarrow(Ways):
         for spot in beyond:
             self.holds(drawing, spot, (0, 7, 1), False)
 
+    def test_straight_along_a_fence(self):
+        for text, one, other in (("a 0 0 4 0", (-1, 0, 1), (5, 0, 1)), ("a 0 0 0 4", (0, 9, 2), (0, -1, 1)),
+                                 ("a 0 0 4 2", (-2, -1, 2), (10, 5, 1)), ("a -3 1 3 -3", (9, -7, 1), (-9, 5, 1))):
+            lone = Drawing(f"drawing\nfence {text} 1")
+            self.assertGreater(len(self.holds(lone, one, other, True)), 2)
+            self.assertGreater(len(self.holds(lone, other, one, True)), 2)
+            self.tells(len(self.holds(Drawing("drawing"), one, other, True)), 2)
+
     def test_upright_fences_one_over_the_other(self):
         text = ("drawing\nfence a 0 0 0 4 1\nfence b 0 4 0 9 1\nfence c 0 10 0 20 1\nfence d -5 0 5 0 1\n"
                 "fence e -5 20 5 20 1")
