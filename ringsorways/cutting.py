@@ -24,6 +24,11 @@ def cut(stretches):
     return corners, rows
 
 
+def links_of(rows):
+    """The pieces of all stretches, each told by the numbers of its two corners; rows come from cut."""
+    return [(row[k], row[k + 1]) for row in rows for k in range(len(row) - 1)]
+
+
 def corners_by_stretch(stretches):
     """For each stretch a dict that has the corners on it as its keys."""
     marked = [{a: True, b: True} for a, b in stretches]

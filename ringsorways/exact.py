@@ -27,6 +27,15 @@ def halfway(a, b):
     return least_terms(a[0] * b[1] + b[0] * a[1], 2 * a[1] * b[1])
 
 
+def ascending(fractions):
+    """The list of these fractions, all in least terms, by their worth, none twice."""
+    widest = max([bottom for _, bottom in fractions], default=1)
+    # Unlike ones are at least 1 / scale apart: so no two fall together when they are rounded down to such steps.
+    scale = widest * widest
+    unlike = {fraction: True for fraction in fractions}
+    return sorted(unlike, key=lambda pair: pair[0] * scale // pair[1])
+
+
 def some_between(low, high):
     """Any fraction strictly between low and high; None stands for a bound that is not there."""
     if low is None and high is None:

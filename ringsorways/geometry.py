@@ -121,13 +121,13 @@ def goes_upward(stretch, spot):
     return int(heights[1]) - int(heights[0])
 
 
+def is_crossed(stretch, spot):
+    """Whether a half line from the spot to the right crosses the stretch."""
+    # Points at its height count as below it, as if it rose a little: so it goes through none of them.
+    upward = goes_upward(stretch, spot)
+    return upward != 0 and turn(stretch[0], stretch[1], spot) == upward
+
+
 def is_round(points, spot):
     """Whether a half line from the spot crosses the closed line through these points an odd number of times."""
-    odd = False
-    for stretch in closed_stretches(points):
-        # The half line goes to the right. Points at its height count as below it,
-        # as if it rose a little: so it goes through none of them.
-        upward = goes_upward(stretch, spot)
-        if upward != 0 and turn(stretch[0], stretch[1], spot) == upward:
-            odd = not odd
-    return odd
+    return len([stretch for stretch in closed_stretches(points) if is_crossed(stretch, spot)]) % 2 == 1

@@ -10,7 +10,7 @@ from math import gcd
 
 from tests.support import cross, ends_of, place, slow_inside, slow_lies_on, slow_meet
 
-DIRECTIONS = [(Fraction(1), Fraction(k * k + 1, 7 * k + 3)) for k in range(60)]
+DIRECTIONS = [(7 * k + 3, k * k + 1) for k in range(60)]
 
 
 def is_true_point(value):
@@ -172,7 +172,7 @@ def slow_passings(drawing, points):
         if p == q:
             return None
         for fence in drawing.fences:
-            met = quick_meet(p, q, *ends_of(fence))
+            met = slow_meet(p, q, *ends_of(fence))
             if met[0] == "none":
                 continue
             if met[0] != "cross" or met[1] in drawing.corners:
@@ -180,15 +180,6 @@ def slow_passings(drawing, points):
             piece = piece_with(drawing, fence[0], met[1])
             times[piece] = times.get(piece, 0) + 1
     return times
-
-
-def quick_meet(p, q, a, b):
-    """slow_meet, but for stretches that are plainly beside one another."""
-    for k in (0, 1):
-        low, high = sorted((Fraction(p[k], p[2]), Fraction(q[k], q[2])))
-        if max(a[k], b[k]) < low or high < min(a[k], b[k]):
-            return ("none",)
-    return slow_meet(p, q, a, b)
 
 
 def piece_with(drawing, name, point):

@@ -74,52 +74,61 @@ def cross(ux, uy, vx, vy):
     return ux * vy - uy * vx
 
 
+def scaled(*points):
+    """The coordinates of these points, all of them times one number, such that they are integers; and this number."""
+    scale = lcm(*[point[2] for point in points])
+    return [(point[0] * (scale // point[2]), point[1] * (scale // point[2])) for point in points], scale
+
+
 def slow_side(a, b, c):
-    (ax, ay), (bx, by), (cx, cy) = place(a), place(b), place(c)
+    ((ax, ay), (bx, by), (cx, cy)), _ = scaled(a, b, c)
     told = cross(bx - ax, by - ay, cx - ax, cy - ay)
     return (told > 0) - (told < 0)
 
 
 def slow_lies_on(a, b, c):
     """Whether c lies on the stretch from a to b."""
-    (ax, ay), (bx, by), (cx, cy) = place(a), place(b), place(c)
-    return slow_side(a, b, c) == 0 and min(ax, bx) <= cx <= max(ax, bx) and min(ay, by) <= cy <= max(ay, by)
+    ((ax, ay), (bx, by), (cx, cy)), _ = scaled(a, b, c)
+    if not (min(ax, bx) <= cx <= max(ax, bx) and min(ay, by) <= cy <= max(ay, by)):
+        return False
+    return cross(bx - ax, by - ay, cx - ax, cy - ay) == 0
 
 
 def slow_meet(a, b, c, d):
     """What meet tells, by solving a + t (b - a) = c + s (d - c)."""
-    (ax, ay), (bx, by), (cx, cy), (dx, dy) = place(a), place(b), place(c), place(d)
+    ((ax, ay), (bx, by), (cx, cy), (dx, dy)), scale = scaled(a, b, c, d)
     ux, uy, vx, vy = bx - ax, by - ay, dx - cx, dy - cy
     turned = cross(ux, uy, vx, vy)
     if turned == 0:
         if cross(ux, uy, cx - ax, cy - ay) != 0:
             return ("none",)
         length = ux * ux + uy * uy
-        shares = [((x - ax) * ux + (y - ay) * uy) / length for x, y in ((cx, cy), (dx, dy))]
-        low, high = max(0, min(shares)), min(1, max(shares))
+        shares = [Fraction((x - ax) * ux + (y - ay) * uy, length) for x, y in ((cx, cy), (dx, dy))]
+        low, high = max(Fraction(0), min(shares)), min(Fraction(1), max(shares))
         if low > high:
             return ("none",)
-        return ("along",) if low < high else ("touch", point_of(ax + low * ux, ay + low * uy))
-    t = cross(cx - ax, cy - ay, vx, vy) / turned
-    s = cross(cx - ax, cy - ay, ux, uy) / turned
-    if not (0 <= t <= 1 and 0 <= s <= 1):
+        return ("along",) if low < high else ("touch", point_of((ax + low * ux) / scale, (ay + low * uy) / scale))
+    if turned < 0:
+        turned, vx, vy, cx, cy = -turned, -vx, -vy, dx, dy
+    t, s = cross(cx - ax, cy - ay, vx, vy), cross(cx - ax, cy - ay, ux, uy)
+    if not (0 <= t <= turned and 0 <= s <= turned):
         return ("none",)
-    return ("touch" if t in (0, 1) or s in (0, 1) else "cross", point_of(ax + t * ux, ay + t * uy))
+    share = Fraction(t, turned)
+    point = point_of((ax + share * ux) / scale, (ay + share * uy) / scale)
+    return ("touch" if t in (0, turned) or s in (0, turned) else "cross", point)
 
 
 def slow_inside(points, spot, direction):
     """What inside tells, by one half line; None if it goes through one of the points."""
-    (sx, sy), (ux, uy), odd = place(spot), direction, False
-    for k in range(len(points)):
-        (ax, ay), (bx, by) = place(points[k - 1]), place(points[k])
-        if cross(ux, uy, ax - sx, ay - sy) == 0 and (ax - sx) * ux + (ay - sy) * uy >= 0:
+    (*tips, (sx, sy)), _ = scaled(*points, spot)
+    (ux, uy), odd = direction, False
+    for k in range(len(tips)):
+        ax, ay, bx, by = tips[k - 1][0] - sx, tips[k - 1][1] - sy, tips[k][0] - sx, tips[k][1] - sy
+        one, other = cross(ux, uy, ax, ay), cross(ux, uy, bx, by)
+        if one == 0 and ax * ux + ay * uy >= 0:
             return None
-        turned = cross(ux, uy, bx - ax, by - ay)
-        if turned == 0:
-            continue
-        ahead = cross(ax - sx, ay - sy, bx - ax, by - ay) / turned
-        share = cross(ax - sx, ay - sy, ux, uy) / turned
-        if ahead > 0 and 0 <= share <= 1:
+        # The stretch goes over the line of the half line; whether ahead of the spot, its turn about the spot tells.
+        if one * other < 0 and (cross(ax, ay, bx, by) > 0) == (other > one):
             odd = not odd
     return odd
 

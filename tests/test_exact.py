@@ -4,7 +4,7 @@ import random
 import unittest
 from fractions import Fraction
 
-from ringsorways.exact import added, halfway, is_less, least_terms, simplest_between, some_between
+from ringsorways.exact import added, ascending, halfway, is_less, least_terms, simplest_between, some_between
 from tests.support import Exact
 
 
@@ -18,6 +18,20 @@ class TestSums(Exact):
                                    (least_terms(*a), one)):
                 self.tells(told, (expected.numerator, expected.denominator))
             self.tells(is_less(a, b), one < other)
+
+
+class TestAscending(Exact):
+    def test_by_their_worth_and_none_twice(self):
+        dice = random.Random(5)
+        for widest in (1, 3, 9, 60, 10 ** 9):
+            shares = [Fraction(dice.randint(-2 * widest, 2 * widest), dice.randint(1, widest)) for _ in range(60)]
+            shares += shares[::3]
+            pairs = [(share.numerator, share.denominator) for share in shares]
+            self.tells(ascending(pairs), [(share.numerator, share.denominator) for share in sorted(set(shares))])
+        self.tells([ascending([]), ascending([(1, 2)])], [[], [(1, 2)]])
+        # Neighbours that lie as near to one another as they can.
+        self.tells(ascending([(10 ** 9, 10 ** 9 + 1), (10 ** 9 - 1, 10 ** 9), (1, 1)]),
+                   [(10 ** 9 - 1, 10 ** 9), (10 ** 9, 10 ** 9 + 1), (1, 1)])
 
 
 class TestBetween(Exact):
