@@ -1,5 +1,6 @@
 """How much comes at most from land to land, each piece letting through as much as its price.
 
+Prices are handed in for all pieces, so that they may be others than the drawing's.
 room tells for each half piece how much may still go from its left to its right.
 """
 
@@ -19,12 +20,12 @@ def flood(joints, room, start):
     return came
 
 
-def greatest_flow(joints, start, goal):
+def greatest_flow(joints, prices, start, goal):
     """(carried, near): what goes over each half piece when as much as can be comes from start to goal.
 
     near tells for each land whether it could still be reached from start then.
     """
-    room = [joints.prices[half // 2] for half in range(2 * len(joints.prices))]
+    room = [prices[half // 2] for half in range(2 * len(prices))]
     came = flood(joints, room, start)
     while goal in came:
         path = joints.path_to(came, goal)
@@ -33,7 +34,7 @@ def greatest_flow(joints, start, goal):
             room[half] -= many
             room[half ^ 1] += many
         came = flood(joints, room, start)
-    carried = [max(0, joints.prices[half // 2] - room[half]) for half in range(len(room))]
+    carried = [max(0, prices[half // 2] - room[half]) for half in range(len(room))]
     return carried, [land in came for land in range(len(joints.rows))]
 
 

@@ -18,7 +18,7 @@ def tightest(drawing, one, other):
         return ("way", tuple(points))
     joints = Joints(drawing)
     start, goal = joints.layout.land_at(one), joints.layout.land_at(other)
-    carried, near = greatest_flow(joints, start, goal)
+    carried, near = greatest_flow(joints, joints.prices, start, goal)
     paths = taken_apart(joints, carried, start, goal)
     ways = tuple([(guide.crossing_way(one, other, path), many) for path, many in paths])
     return ("ring", sum([many for _, many in paths]), joints.ring_about(near, start, goal), ways)

@@ -2,8 +2,8 @@
 
 from ringsorways.drawings import without
 from ringsorways.plane import between
-from tests.ruler import (Map, is_true_parting, is_true_way, prices_of, slow_passings, slow_ring_pieces,
-                         slow_ring_price)
+from tests.ruler import (Map, is_true_parting, is_true_way, prices_of, slow_passings, slow_ring_has,
+                         slow_ring_pieces, slow_ring_price)
 
 
 def is_row(value, *words_and_sizes):
@@ -116,3 +116,48 @@ def with_midpoints(points):
 
 def begun_elsewhere(ring, at):
     return ring[at:] + ring[:at]
+
+
+def chain_between(rows, one, other):
+    """The rows of the chain between two numbers of spots, in rows that join them just one way."""
+    ahead = [(one, ())]
+    for at, chain in ahead:
+        if at == other:
+            return chain
+        for row in rows:
+            if at in row[:2] and row not in chain:
+                ahead.append((row[0] + row[1] - at, chain + (row,)))
+    return None
+
+
+def judge_tree(drawing, spots, value):
+    """By the words of section 15."""
+    if type(value) is not tuple or len(value) != len(spots) - 1:
+        return False
+    for row in value:
+        if type(row) is not tuple or len(row) != 3 or not is_integer(row[0]) or not is_integer(row[1]):
+            return False
+        if not 0 <= row[0] < row[1] < len(spots):
+            return False
+    links = [(place, row[0], row[1]) for place, row in enumerate(value)]
+    if reached(links, 0, len(spots)) != set(range(len(spots))):
+        return False
+    for place, (i, j, told) in enumerate(value):
+        if not judge_tightest(drawing, spots[i], spots[j], told):
+            return False
+        if told[0] == "ring":
+            within = {at for at, spot in enumerate(spots) if slow_ring_has(drawing, told[2], spot)}
+            rest = links[:place] + links[place + 1:]
+            if within not in (reached(rest, i, len(spots)), reached(rest, j, len(spots))):
+                return False
+    return True
+
+
+def reached(links, first, many):
+    """The numbers, of so many, that hang together with the first one over these links (anything, i, j)."""
+    found = {first}
+    for _ in range(many):
+        for _, i, j in links:
+            if i in found or j in found:
+                found |= {i, j}
+    return found

@@ -29,6 +29,18 @@ NAMES = {
     "cheapest": "cheapest shows_cheapest cost_without",
     "tightest": "tightest shows_tightest",
     "needed": "needed shows_needed",
+    "hues": "two_hues shows_two_hues",
+    "overlay": "overlay both",
+    "led": "moments swept parted_when",
+    "trees": "tree shows_tree",
+    "field": "Field",
+    "journals": "journal read_journal",
+    "desk": "Desk",
+}
+
+METHODS = {
+    "Field": "put take price lead mark strike elder apart cost undo redo trial keep tried copy",
+    "Desk": "say",
 }
 
 
@@ -99,6 +111,32 @@ class TestRules(unittest.TestCase):
             tree = ast.parse((PACKAGE / (module + ".py")).read_text(encoding="ascii"))
             defined = {node.name for node in tree.body if isinstance(node, (ast.FunctionDef, ast.ClassDef))}
             self.assertLessEqual(set(names.split()), defined, module)
+
+    def test_what_the_interface_lists_for_a_class_is_defined_in_its_body(self):
+        for _, _, tree in trees():
+            for node in ast.walk(tree):
+                if isinstance(node, ast.ClassDef) and node.name in METHODS:
+                    defined = {inner.name for inner in node.body if isinstance(inner, ast.FunctionDef)}
+                    self.assertLessEqual(set(METHODS[node.name].split()), defined, node.name)
+
+    def test_a_block_is_left_by_plain_assignments(self):
+        for name, _, tree in trees():
+            for node in ast.walk(tree):
+                if isinstance(node, ast.FunctionDef) and node.name == "__exit__":
+                    for inner in ast.walk(ast.Module(node.body, [])):
+                        self.assertNotIsInstance(inner, (ast.Call, ast.Subscript, ast.Raise, ast.For, ast.While), name)
+                        if isinstance(inner, ast.Return):
+                            self.assertIsNone(inner.value, name)
+
+    def test_no_name_is_a_method_and_an_attribute(self):
+        methods, attributes = set(), set()
+        for _, _, tree in trees():
+            for node in ast.walk(tree):
+                if isinstance(node, ast.ClassDef):
+                    methods |= {inner.name for inner in node.body if isinstance(inner, ast.FunctionDef)}
+                if isinstance(node, ast.Attribute) and isinstance(node.ctx, ast.Store):
+                    attributes.add(node.attr)
+        self.assertEqual(methods & attributes, set())
 
     def test_no_barred_syntax(self):
         barred = (ast.AsyncFunctionDef, ast.Await, ast.Global, ast.Yield, ast.YieldFrom, ast.GeneratorExp, ast.Div)
