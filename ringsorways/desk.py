@@ -92,7 +92,8 @@ class Desk:
         if deed is not None:
             self.field.do(deed)
             return DONE
-        told = read_form(line, FORMS)
+        words = line.split(" ")
+        told = read_form(words, FORMS.get(words[0]))
         if told is None:
             raise BadWords(line)
         answer = ANSWERS[told[0]]

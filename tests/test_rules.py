@@ -176,6 +176,26 @@ class TestRules(unittest.TestCase):
                     names = stored_in(node) | {argument.arg for argument in arguments_of(node)}
                     self.assertEqual(names & (set(taken) | classes), set(), name)
 
+    def test_tables_are_only_read_where_they_stand(self):
+        for name, _, tree in trees():
+            tables = {node.targets[0].id for node in tree.body
+                      if isinstance(node, ast.Assign) and isinstance(node.value, (ast.Dict, ast.List))}
+            read = [node.value for node in ast.walk(tree) if isinstance(node, ast.Subscript)]
+            read += [node.func.value for node in ast.walk(tree)
+                     if isinstance(node, ast.Call) and isinstance(node.func, ast.Attribute) and node.func.attr == "get"]
+            for node in ast.walk(tree):
+                if isinstance(node, ast.Name) and node.id in tables and isinstance(node.ctx, ast.Load):
+                    self.assertIn(node, read, (name, node.id))
+            for node in ast.walk(tree):
+                if isinstance(node, ast.ImportFrom) and node.module.startswith("ringsorways."):
+                    taken = {alias.name for alias in node.names if alias.name.isupper()}
+                    for other in taken:
+                        self.assertIsInstance(self.value_of(node.module.split(".")[1], other), ast.Constant)
+
+    def value_of(self, module, name):
+        tree = ast.parse((PACKAGE / (module + ".py")).read_text(encoding="ascii"))
+        return next(node.value for node in tree.body if isinstance(node, ast.Assign) and node.targets[0].id == name)
+
     def test_modules_hold_no_code_that_runs(self):
         for name, _, tree in trees():
             for node in tree.body:
